@@ -1,0 +1,116 @@
+"""The interface: names and arguments as the document lists them, defined where it lists them, and the fields."""
+
+import importlib
+import inspect
+import unittest
+
+from shardstack.disk import Disk
+from shardstack.journal import Entry, Journal
+from shardstack.keeper import Keeper, Shard
+from shardstack.net import Net
+from shardstack.raft import Agreement
+from shardstack.server import Server
+from shardstack.shards import MapBook, ShardMap, first_map
+
+FUNCTIONS = {
+    "wire": ("natural(number)", "pack(value, depth=0)", "sign_number(sign)", "unpack(data)", "sum_of_bytes(data)",
+             "four(number)", "frame(value)", "read_frames(data)"),
+    "journal": ("read_journal(disk, members)",),
+    "shards": ("check_key(key)", "shard_of(key)", "first_map()", "map_from(shown)", "balanced(places, groups)",
+               "changed_map(old, change)"),
+    "keeper": ("check_operation(operation)", "check_value(value, may_lack)", "keys_of(operation)",
+               "carry(data, operation)", "rows_of(table)", "shard_from(shown)"),
+}
+
+CLASSES = {
+    "disk.Disk": ("", "arm(steps)", "append(value)", "sync()", "records()", "replace(name, value, records)",
+                  "read_file(name)", "crash(many)", "restart()"),
+    "journal.Entry": ("term, command", "shown()"),
+    "journal.Journal": ("disk, members", "last()", "last_term()", "term_at(number)", "entry(number)",
+                        "after(number, many)", "members()", "members_at(number)", "set_term(term, vote)", "add(entries)",
+                        "cut(number)", "take_image(number, image)", "install(number, term, members, image)",
+                        "same_after(number, entries)"),
+    "raft.Agreement": ("name, journal, seed", "members()", "others()", "is_majority(names)", "send(target, message)",
+                       "take_outbox()", "tick()", "follow(term, leader)", "receive(message)", "propose(command)",
+                       "begin_read()", "is_confirmed(turn, term)", "compact(number, image)"),
+    "shards.ShardMap": ("number, places, groups", "shown()", "group_of(key)", "shards_of(group)"),
+    "shards.MapBook": ("", "apply(command)", "answer_to(operation)", "make_image()", "install(image)"),
+    "keeper.Shard": ("state, number", "tables()", "shown()"),
+    "keeper.Keeper": ("group", "apply(command)", "ask(client, serial, operation)", "read(key)", "lacking()",
+                      "make_image()", "install(image)"),
+    "server.Server": ("name, group, members, map_members, disk, seed, limit=12", "tick()", "receive(message)",
+                      "begin_read(source, number, key)", "take_outbox()"),
+    "net.Net": ("", "send(source, target, value)", "is_cut(one, other)", "cut(names, part)", "heal()", "take(place)",
+                "drop(place)", "repeat(place)", "forget(name)"),
+}
+
+
+def fields():
+    """Return objects, and each field with the class that it is of."""
+    text, table, row, rows, many, truth, none = str, dict, tuple, list, int, bool, type(None)
+    journal = Journal(Disk(), ("a", "b"))
+    return (
+        (Disk(), {"kept": row, "waiting": row, "syncs": many, "fuse": none, "down": truth, "files": table}),
+        (Entry(1, ("x",)), {"term": many, "command": row}),
+        (journal, {"term": many, "vote": none, "base": many, "base_term": many, "base_members": row, "image": none,
+                   "entries": rows, "disk": Disk}),
+        (Agreement("a", journal, 1), {"name": text, "journal": Journal, "part": text, "leader": none, "committed": many,
+                                      "turn": many, "clock": many, "matched": table, "following": table}),
+        (first_map(), {"number": many, "places": row, "groups": table}),
+        (MapBook(), {"maps": rows}),
+        (Shard("away", 0), {"state": text, "number": many, "data": table, "sessions": table, "locks": table,
+                            "deals": table, "decided": table}),
+        (Keeper("g"), {"group": text, "map": row, "old_map": row, "shards": rows}),
+        (Server("a", "g", ("a",), ("m",), Disk(), 1), {"name": text, "group": text, "agreement": Agreement,
+                                                       "book": Keeper, "applied": many, "waiting": table}),
+        (Net(), {"messages": rows, "parts": table, "sent": many, "lost": many}),
+    )
+
+
+def told(function, is_method):
+    """Return a function's parameters as the document writes them."""
+    found = [str(one) for one in inspect.signature(function).parameters.values()]
+    return ", ".join(found[1:] if is_method else found)
+
+
+class Interface(unittest.TestCase):
+    def test_functions(self):
+        for name, lines in FUNCTIONS.items():
+            module = importlib.import_module("shardstack." + name)
+            for line in lines:
+                function = vars(module)[line.split("(")[0]]
+                self.assertEqual(function.__module__, module.__name__)
+                self.assertEqual(function.__name__ + "(" + told(function, False) + ")", line)
+
+    def test_classes(self):
+        for name, lines in CLASSES.items():
+            module = importlib.import_module("shardstack." + name.split(".")[0])
+            found = vars(module)[name.split(".")[1]]
+            self.assertEqual((found.__module__, found.__name__), (module.__name__, name.split(".")[1]))
+            self.assertEqual(told(found.__init__, True), lines[0])
+            for line in lines[1:]:
+                method = vars(found)[line.split("(")[0]]
+                self.assertEqual(method.__name__ + "(" + told(method, True) + ")", line)
+
+    def test_fields(self):
+        for one, names in fields():
+            for name, kind in names.items():
+                self.assertIs(type(vars(one)[name]), kind, (type(one).__name__, name))
+
+    def test_constants(self):
+        shards = importlib.import_module("shardstack.shards")
+        self.assertEqual((shards.SHARDS, shards.MAPS), (8, "maps"))
+
+    def test_no_object_shares_its_tables_with_another(self):
+        for (one, names), (other, _) in zip(fields(), fields()):
+            for name, kind in names.items():
+                if kind in (dict, list):
+                    self.assertIsNot(getattr(one, name), getattr(other, name))
+
+    def test_maps_are_made_of_what_is_told(self):
+        one = ShardMap(1, ("g",) * 8, {"g": ("a",)})
+        self.assertEqual((one.number, one.places, one.groups), (1, ("g",) * 8, {"g": ("a",)}))
+
+
+if __name__ == "__main__":
+    unittest.main()
