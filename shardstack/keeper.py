@@ -17,7 +17,7 @@ MOVED = ("moved",)
 READY = "ready"
 OVER = "over"
 
-# How many items an operation of each class has.
+# What has another number of items than its class is no operation.
 SIZES = {"get": 2, "put": 3, "append": 3, "swap": 4, "delete": 2}
 
 

@@ -15,7 +15,7 @@ ROUND_TICKS = 3
 LEAST_WAIT = 8
 WAITS = 8
 
-# How many items a message of each class has.
+# A message with another number of items than its class has is an unknown one.
 SIZES = {"ask": 5, "vote": 4, "entries": 8, "accept": 6, "image": 8}
 
 
@@ -291,7 +291,7 @@ class Agreement:
         return number
 
     def may_change(self, members):
-        """Return True if the members may be others now: they differ by one, and nothing before is open."""
+        """Return True if the members may be others now: they differ by one, and the last change is committed."""
         old = self.members()
         changed = [one for one in members if one not in old] + [one for one in old if one not in members]
         is_settled = self.journal.members_at(self.committed) == old and self.has_committed()

@@ -6,13 +6,11 @@ from shardstack.keeper import Keeper, check_operation
 from shardstack.raft import LEADER, Agreement
 from shardstack.shards import MAPS, MapBook, check_key
 
-# Every so many ticks a leader asks other groups for what its own lacks.
+# A leader does not ask other groups at each tick: answers take a while.
 ASK_TICKS = 3
 
-# How many items a message of each class has.
+# A message or a command with another number of items than its class has is an unknown one.
 SIZES = {"log": 2, "request": 4, "reply": 4}
-
-# How many items a command of each class has, in the maps' group and in the others.
 MAP_COMMANDS = {"ask": 4, "map": 2, "members": 2}
 COMMANDS = {
     "ask": 4, "map": 2, "install": 4, "drop": 3, "prepare": 4, "decide": 4, "finish": 4, "members": 2,
@@ -83,36 +81,35 @@ class Server:
 
     def handle(self, source, number, command):
         """Handle a request: answer it now, or let it wait for the log or for a round."""
-        self.check_command(command)
+        self.check_known(command)
         word = command[0]
         if word == "near":
             self.reply(source, number, self.near(command[1], command[2], command[3]))
         elif word in ("pull", "have") or (word == "map" and not isinstance(command[1], tuple)):
             self.reply(source, number, self.told(command))
+        elif self.agreement.part != LEADER:
+            self.reply_follow(source, number)
         elif word == "read":
             self.begin_read(source, number, command[1])
         else:
             self.put_into_log(source, number, command)
 
-    def check_command(self, command):
-        """Raise MachineError for a command that is unknown here, AskError for an operation that is none.
-
-        What stands in the log is applied by every machine, so no operation that fails may come into it.
-        """
+    def check_known(self, command):
+        """Raise MachineError for a command that is unknown here."""
         sizes = dict(MAP_COMMANDS) if self.group == MAPS else dict(COMMANDS)
         word = command[0] if len(command) > 0 else None
         if word not in sizes or len(command) != sizes[word]:
             raise MachineError("an unknown message")
-        if self.group == MAPS:
-            if word == "ask" and command[3][:1] not in (("change",), ("map",)):
-                raise MachineError("an unknown message")
-        elif word == "ask":
+        if self.group == MAPS and word == "ask" and command[3][:1] not in (("change",), ("map",)):
+            raise MachineError("an unknown message")
+
+    def check_operations(self, command):
+        """Raise AskError for an operation that is none."""
+        if self.group != MAPS and command[0] == "ask":
             check_operation(command[3])
-        elif word == "prepare":
+        elif command[0] == "prepare":
             for operation in command[3]:
                 check_operation(operation)
-        elif word in ("read", "near"):
-            check_key(command[1])
 
     def told(self, command):
         """Return the answer to a command that every machine of the group answers by what it has applied."""
@@ -136,6 +133,8 @@ class Server:
 
     def put_into_log(self, source, number, command):
         """Put a command into the log, and let its request wait until that is applied."""
+        # Every machine of the group applies what stands in the log, so nothing that fails may come into it.
+        self.check_operations(command)
         try:
             place = self.agreement.propose(command)
         except MachineError:
@@ -152,6 +151,7 @@ class Server:
 
     def begin_read(self, source, number, key):
         """Let a read wait until the machine knows that it still leads."""
+        check_key(key)
         try:
             place, turn = self.agreement.begin_read()
         except MachineError:

@@ -8,7 +8,7 @@ MAPS = "maps"
 MOST_KEY = 30
 KEY_LIMIT = 65521
 
-# How many items a change of each class has.
+# A change with another number of items than its class has is an unknown one.
 CHANGES = {"join": 3, "leave": 2, "move": 3}
 
 

@@ -13,7 +13,7 @@ BELOW = 5
 TEXT = 6
 ROW = 7
 
-# The row of the characters that can be sent: a character's place in it is its number.
+# The order is that of the bytes: a character's place in this row is its number. The percent sign has none.
 SIGNS = "\n !\"#$&'()*+,-./0123456789:;<=>?@ABCDEFGHIJKLMNOPQRSTUVWXYZ[\\]^_`abcdefghijklmnopqrstuvwxyz{|}~"
 
 
@@ -84,7 +84,7 @@ class Unpacker:
         self.data = data
         self.place = 0
 
-    def byte(self):
+    def read_byte(self):
         """Read one byte."""
         if self.place >= len(self.data):
             raise WireError("bytes are cut")
@@ -92,59 +92,59 @@ class Unpacker:
         self.place = self.place + 1
         return found
 
-    def number(self):
+    def read_number(self):
         """Read a number from 0 on, which has no needless last byte."""
         number = 0
         weight = 1
-        byte = self.byte()
+        byte = self.read_byte()
         while byte > 127:
             number = number + (byte - 128) * weight
             weight = weight * 128
-            byte = self.byte()
+            byte = self.read_byte()
         if byte == 0 and weight > 1:
             raise WireError("a number has a needless byte")
         return number + byte * weight
 
-    def length(self):
+    def read_length(self):
         """Read how many items follow, each of which takes at least one byte."""
-        many = self.number()
+        many = self.read_number()
         if many > len(self.data) - self.place:
             raise WireError("bytes are cut")
         return many
 
-    def text(self):
+    def read_text(self):
         """Read the characters of a text."""
-        end = self.length() + self.place
+        end = self.read_length() + self.place
         places = self.data[self.place:end]
         if any([place >= len(SIGNS) for place in places]):
             raise WireError("there is no such character")
         self.place = end
         return "".join([SIGNS[place] for place in places])
 
-    def value(self, depth):
+    def read_value(self, depth):
         """Read a value that stands in so many tuples."""
         if depth > MOST_DEEP:
             raise WireError("tuples are nested too deep")
-        mark = self.byte()
+        mark = self.read_byte()
         if mark == NOTHING:
             return None
         if mark == TRUTH or mark == FALSEHOOD:
             return mark == TRUTH
         if mark == NUMBER:
-            return self.number()
+            return self.read_number()
         if mark == BELOW:
-            return 0 - self.number() - 1
+            return 0 - self.read_number() - 1
         if mark == TEXT:
-            return self.text()
+            return self.read_text()
         if mark == ROW:
-            return tuple([self.value(depth + 1) for _ in range(self.length())])
+            return tuple([self.read_value(depth + 1) for _ in range(self.read_length())])
         raise WireError("there is no such class of value")
 
 
 def unpack(data):
     """Return the value of bytes; raise WireError for bytes that are none, or have more."""
     unpacker = Unpacker(data)
-    value = unpacker.value(0)
+    value = unpacker.read_value(0)
     if unpacker.place != len(unpacker.data):
         raise WireError("bytes go on behind a value")
     return value

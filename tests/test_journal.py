@@ -415,6 +415,11 @@ class Reading(unittest.TestCase):
         with self.assertRaises(StoreError):
             read_journal(disk, NAMES)
 
+    def test_an_image_of_another_form(self):
+        for image in (7, "image", (), (5, 1, NAMES), (5, 1, NAMES, None, None)):
+            with self.assertRaises(StoreError):
+                read_journal(self.disk((), image), NAMES)
+
     def test_a_disk_that_is_down(self):
         journal = filled(3)
         journal.disk.append(("entry", 4, 9, ("waits",)))

@@ -24,7 +24,7 @@ class Waits(unittest.TestCase):
         # by 65536 that is 16838, and by 8 that is 6.
         self.assertEqual(waits("a", 1, 1), [14])
         self.assertEqual(stand(agreement("a", NAMES, 1)), 14)
-        # "b" with seed 7: number 67; (7 * 1103515245 + 12345 + 134) by 2 ** 31 is 1282168116; by 65536 it is 19564.
+        # "b" with seed 7: number 67; (7 * 1103515245 + 12345 + 134) by 2 ** 31 is 1282168250; by 65536 it is 19564.
         self.assertEqual(waits("b", 7, 1), [12])
         self.assertEqual(stand(agreement("b", NAMES, 7)), 12)
 
@@ -728,6 +728,40 @@ class Members(unittest.TestCase):
         self.assertEqual(machine.committed, 1)
         confirm(machine, "b")
         self.assertEqual(machine.committed, 2)
+
+    def test_who_alone_knows_of_its_going_brings_that_to_the_others(self):
+        # b has put into its log that it goes, and went down before c heard of it: c cannot lead without b's vote,
+        # and b cannot give it, for its log is ahead.
+        b = agreement("b", ("b", "c"), rows=((1, ("nothing",)), (1, ("members", ("c",)))), term=1)
+        c = agreement("c", ("b", "c"), rows=((1, ("nothing",)),), term=1)
+        for _ in range(60):
+            b.tick()
+        self.assertEqual((b.part, b.journal.term), ("follower", 1))
+        stand(c)
+        for _ in range(20):
+            for one, other in ((c, b), (b, c)):
+                for _, message in one.take_outbox():
+                    other.receive(message)
+            b.tick()
+        self.assertEqual((c.members(), log_of(c)), (("c",), log_of(b)))
+        self.assertEqual((b.part, b.committed, b.journal.term), ("follower", 3, 3))
+
+    def test_who_hears_a_leader_is_not_asked_in_vain_any_more(self):
+        machine = agreement("z", ("a", "b"), rows=ONE, term=1)
+        machine.receive(("ask", 2, "a", 0, 0))
+        machine.receive(("entries", 2, "b", 1, 1, (), 1, 1))
+        for _ in range(60):
+            machine.tick()
+        self.assertEqual((machine.part, machine.journal.term), ("follower", 2))
+
+    def test_who_is_asked_in_vain_stands_once(self):
+        machine = agreement("z", ("a", "b"), rows=ONE, term=1)
+        machine.receive(("ask", 2, "a", 0, 0))
+        stand(machine)
+        self.assertEqual((machine.part, machine.journal.term), ("candidate", 3))
+        for _ in range(60):
+            machine.tick()
+        self.assertEqual(machine.journal.term, 3)
 
     def test_a_change_that_is_cut_holds_no_more(self):
         machine = agreement("b", rows=((1, ("nothing",)), (1, ("members", ("a", "b")))), term=1)

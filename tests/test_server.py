@@ -217,11 +217,46 @@ class Requests(unittest.TestCase):
                             ("request", "user", 1, ("ask", "user", 1)), ("request", "user", 1, ("read",)), (7, 1)):
                 with self.assertRaises(MachineError):
                     server.receive(message)
-            for operation in ((), ("other", "a"), ("put", "a"), ("put", "%", "a"), ("all", (("get", KEY), ("get", OTHER)))):
-                with self.assertRaises(AskError):
-                    server.receive(("request", "user", 1, ("ask", "user", 1, operation)))
             self.assertEqual((server.book.make_image(), server.agreement.journal.last(), server.applied), before)
             self.assertEqual(server.take_outbox(), [])
+
+    def test_operations_that_are_none(self):
+        group = keeping()
+        server = group.servers["a"]
+        before = server.book.make_image(), server.agreement.journal.last(), server.applied, server.agreement.turn
+        for operation in ((), ("other", "a"), ("put", "a"), ("put", "%", "a"), ("all", (("get", KEY), ("get", OTHER)))):
+            with self.assertRaises(AskError):
+                group.ask("a", "ask", "user", 1, operation)
+            self.assertEqual(group.ask("b", "ask", "user", 1, operation)[0], ("follow", "a"))
+        for command in (("prepare", DEAL, 1, (("get", KEY), ("put", KEY))), ("read", ""), ("near", "%", 0, 0)):
+            with self.assertRaises(AskError):
+                group.ask("a", *command)
+        self.assertEqual((server.book.make_image(), server.agreement.journal.last(), server.applied,
+                          server.agreement.turn), before)
+        self.assertEqual(server.take_outbox(), [])
+
+    def test_a_request_whose_place_is_taken_by_another(self):
+        group = keeping()
+        group.deaf = ("a",)
+        for number in (1, 2, 3):
+            self.assertIsNone(group.ask("a", "ask", "user", number, ("put", KEY, "1"), number=number))
+        place = group.servers["a"].agreement.journal.last() - 2
+        while group.servers["b"].agreement.part != "leader":
+            group.tick(1, ("b",))
+        group.tick(3, ("b",))
+        group.deaf = ()
+        group.tick(6, ("b",))
+        self.assertEqual(sorted(group.servers["a"].waiting), [place + 1, place + 2])
+        self.assertEqual(group.heard(1)[0], ("follow", "b"))
+        while group.servers["a"].agreement.part != "candidate":
+            group.servers["a"].tick()
+        group.deliver()
+        self.assertEqual(group.heard(2)[0][0], "follow")
+        group.deaf = ("b", "c")
+        group.servers["a"].receive(("request", "user", 4, ("ask", "user", 4, ("put", KEY, "2"))))
+        self.assertEqual(group.servers["a"].waiting[place + 2][:2], ("user", 4))
+        group.deliver()
+        self.assertEqual(group.heard(3)[0], ("follow", "a"))
 
     def test_members(self):
         group = keeping(("a", "b", "c"))
@@ -297,6 +332,18 @@ class Reads(unittest.TestCase):
         group.deaf = ()
         group.tick(6, ("b",))
         self.assertEqual(group.heard()[0][0], "follow")
+
+    def test_a_leader_that_goes_serves_no_read(self):
+        group = keeping()
+        server = group.servers["a"]
+        server.receive(("request", "user", 1, ("members", ("b", "c"))))
+        last = server.agreement.journal.last()
+        server.receive(("request", "user", 2, ("read", KEY)))
+        server.take_outbox()
+        for name in ("b", "c"):
+            server.receive(("log", ("accept", 1, name, True, last, 0)))
+        self.assertEqual(server.take_outbox(), [("user", ("reply", 1, ("done",), last)),
+                                                ("user", ("reply", 2, ("follow", None), last))])
 
     def test_near(self):
         group = keeping()
@@ -381,6 +428,19 @@ class Moves(unittest.TestCase):
         group.tick(3)
         self.assertEqual([command for _, _, command in self.asked(group)], [("map", 2)])
 
+    def test_what_is_under_way_is_not_put_into_the_log_again(self):
+        group = keeping(limit=2)
+        server = group.servers["a"]
+        self.assertGreater(server.agreement.journal.base, 0)
+        last = server.agreement.journal.last()
+        for _ in range(3):
+            server.receive(("reply", 1, ("map", SHOWN[2]), 0))
+        self.assertEqual(server.agreement.journal.last(), last + 1)
+        group.deliver()
+        for shard in (4, 4, 5, 5, 4):
+            server.receive(("reply", 1, ("have", shard, 2), 0))
+        self.assertEqual(server.agreement.journal.last(), last + 3)
+
     def test_a_leader_asks_whether_its_shards_have_come(self):
         group = keeping(many=2)
         self.asked(group)
@@ -445,6 +505,12 @@ class MapsGroup(unittest.TestCase):
             with self.assertRaises(MachineError):
                 group.ask("m", *command)
         self.assertEqual(group.servers["m"].agreement.journal.last(), 1)
+
+    def test_members(self):
+        group = Group(NAMES, "maps")
+        group.elect("a")
+        self.assertEqual(group.ask("a", "members", ("a", "b")), (("done",), 2))
+        self.assertEqual(group.servers["a"].agreement.members(), ("a", "b"))
 
     def test_it_asks_for_nothing(self):
         group = Group(("m",), "maps", 1000, ("m",))

@@ -186,7 +186,9 @@ class Sums(unittest.TestCase):
 
     def test_four(self):
         for number, data in ((0, (0, 0, 0, 0)), (1, (0, 0, 0, 1)), (255, (0, 0, 0, 255)), (256, (0, 0, 1, 0)),
-                             (16909060, (1, 2, 3, 4)), (4294967295, (255, 255, 255, 255))):
+                             (16909060, (1, 2, 3, 4)), (65536, (0, 1, 0, 0)),
+                             (16777216, (1, 0, 0, 0)), (3735928559, (222, 173, 190, 239)),
+                             (4278190335, (255, 0, 0, 255)), (4294967295, (255, 255, 255, 255))):
             self.assertEqual(four(number), data)
 
 
@@ -212,6 +214,12 @@ class Frames(unittest.TestCase):
         data = sum((frame(value) for value in VALUES), ())
         self.assertEqual(self.read(data), (list(VALUES), len(data)))
         self.assertIsInstance(read_frames(data), tuple)
+
+    def test_long_records(self):
+        for many in (250, 65529, 65530, 70000):
+            data = frame("x" * many) + frame("y")
+            self.assertEqual(self.read(data), (["x" * many, "y"], len(data)))
+            self.assertEqual(self.read(data[:many]), ([], 0))
 
     def test_cut_at_every_place(self):
         values = (None, ("term", 3, "a"), "", 70000, ())
