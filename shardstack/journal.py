@@ -118,7 +118,8 @@ class Journal:
 
     def take_image(self, number, image):
         """Put a snapshot in the place of the entries up to a number, which must be there."""
-        term = self.entry(number).term
+        # The base itself is there, too: a snapshot taken at it stands for the same entries as the one before.
+        term = self.term_at(number)
         self.set_base(number, term, self.members_at(number), image, self.entries[number - self.base:])
 
     def install(self, number, term, members, image):

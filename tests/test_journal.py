@@ -225,6 +225,21 @@ class Changes(unittest.TestCase):
             journal.take_image(4, "%")
         self.assertEqual((shown(journal), state_of(journal.disk)), before)
 
+    def test_take_image_at_the_base(self):
+        for journal in (Journal(Disk(), NAMES), filled(4, 2)):
+            base = journal.last() // 2
+            journal.install(base, journal.term_at(base), ("a", "b"), "old")
+            before = shown(journal), journal.disk.records()
+            journal.take_image(base, ("new", base))
+            self.assertEqual(journal.disk.read_file("image"), (base, journal.base_term, ("a", "b"), ("new", base)))
+            self.assertEqual(shown(read_journal(journal.disk, NAMES)), shown(journal))
+            self.assertEqual(journal.image, ("new", base))
+            journal.image = "old"
+            self.assertEqual((shown(journal), journal.disk.records()), before)
+            for number in (base - 1, journal.last() + 1):
+                with self.assertRaises(LogError):
+                    journal.take_image(number, "i")
+
     def test_install_with_entries_that_follow_the_same_one(self):
         journal = filled(4, 2)
         self.assertIsNone(journal.install(2, 1, ("a", "b"), "there"))
@@ -302,6 +317,7 @@ class Crashes(unittest.TestCase):
         lambda journal: journal.add(entries((4, ("one",)), (4, ("two",)), (5, ("members", ("z",))), (5, ("four",)))),
         lambda journal: journal.cut(5),
         lambda journal: journal.take_image(5, ("image", 5)),
+        lambda journal: journal.take_image(3, ("image", "again")),
         lambda journal: journal.install(5, 3, ("a", "z"), "same"),
         lambda journal: journal.install(5, 8, ("a", "z"), "other"),
         lambda journal: journal.install(12, 8, ("a", "z"), "far"),
