@@ -47,6 +47,7 @@ class Agreement:
         self.turn = 0
         self.clock = 0
         self.is_needed = False
+        self.strangers = {}
         self.votes = {}
         self.matched = {}
         self.following = {}
@@ -116,13 +117,16 @@ class Agreement:
         self.matched = {}
         self.following = {}
         self.journal.add((Entry(self.journal.term, NOTHING),))
-        self.know_others()
         self.begin_round()
         self.commit()
 
+    def hearers(self):
+        """Return whom a leader sends its log to, in ascending order: the others, and strangers."""
+        return sorted(self.others() + [one for one in self.strangers if one not in self.members()])
+
     def know_others(self):
-        """Begin to keep count of members that are not yet known, from the last entry on."""
-        for other in self.others():
+        """Begin to keep count of those that are not yet known, from the last entry on."""
+        for other in self.hearers():
             if other not in self.following:
                 self.matched[other] = 0
                 self.following[other] = self.journal.last()
@@ -130,7 +134,8 @@ class Agreement:
     def begin_round(self):
         """Begin a round: whoever answers it, or a later one, still follows this machine."""
         self.turn = self.turn + 1
-        for other in self.others():
+        self.know_others()
+        for other in self.hearers():
             self.send_log(other)
 
     def send_log(self, target):
@@ -182,6 +187,9 @@ class Agreement:
         # Who asks takes this machine for a member. If the entry that says otherwise is known here alone, and nobody
         # else can lead without this vote, only this machine can bring that entry to the others.
         self.is_needed = self.is_needed or (term == self.journal.term and is_behind)
+        # One that is no member any more and has not heard so stands again and again, until a leader tells it.
+        if is_behind and source not in self.members():
+            self.strangers[source] = True
         if granted:
             if self.journal.vote is None:
                 self.journal.set_term(term, source)
@@ -242,12 +250,14 @@ class Agreement:
         if success:
             self.matched[source] = max(self.matched[source], min(number, self.journal.last()))
             self.following[source] = self.matched[source] + 1
+            if self.matched[source] == self.journal.last():
+                self.strangers.pop(source, None)
             self.commit()
         else:
             # A late answer may tell of less than what is known to be there.
             known = self.matched[source] + 1
             self.following[source] = max(known, min(self.following[source] - 1, number + 1))
-        if self.part == LEADER and source in self.others() and self.following[source] <= self.journal.last():
+        if self.part == LEADER and source in self.hearers() and self.following[source] <= self.journal.last():
             self.send_log(source)
 
     def commit(self):

@@ -4,9 +4,16 @@ import importlib
 import inspect
 import unittest
 
+from shardstack.client import Client
+from shardstack.cluster import Administrator, Cluster
+from shardstack.console import Console
 from shardstack.disk import Disk
+from shardstack.gossip import Crowd, View
+from shardstack.hashtree import HashTree
 from shardstack.journal import Entry, Journal
 from shardstack.keeper import Keeper, Shard
+from shardstack.linear import Operation
+from shardstack.merge import Register
 from shardstack.net import Net
 from shardstack.raft import Agreement
 from shardstack.server import Server
@@ -20,6 +27,20 @@ FUNCTIONS = {
                "changed_map(old, change)"),
     "keeper": ("check_operation(operation)", "check_value(value, may_lack)", "keys_of(operation)",
                "carry(data, operation)", "rows_of(table)", "shard_from(shown)"),
+    "client": ("check_wish(wish)",),
+    "linear": ("carry_wish(data, wish)", "operations_of(history)", "first_ones(operations, left)",
+               "is_before(operation, time)", "linear_order(operations)", "is_linear(history)"),
+    "inspect": ("journals(cluster, group)", "check_leaders(cluster, group)", "check_logs(cluster, group)",
+                "check_pair(one, other)", "check_committed(cluster, group)", "has_most(members, names)",
+                "has_entry(journal, number, term)", "check_shards(cluster)", "newest_keeper(cluster, group, place)",
+                "check_cluster(cluster)"),
+    "hashtree": ("hash_of(value)", "part_of(key, level)", "differing_ways(one, other)", "differing_keys(one, other)",
+                 "bring_together(one, other)"),
+    "merge": ("greatest(one, other)",),
+    "trace": ("machine_digest(cluster, name)", "digest(cluster)", "event_word(choice)", "trace_text(choices)",
+              "choice_of(line)", "parse_trace(text)", "rerun(groups, seed, limit, wishes, choices)"),
+    "console": ("deal_part(text)", "value_text(value)", "answer_text(answer)", "map_text(answer)",
+                "history_lines(history)", "wish_text(wish)"),
 }
 
 CLASSES = {
@@ -42,6 +63,25 @@ CLASSES = {
                       "begin_read(source, number, key)", "take_outbox()"),
     "net.Net": ("", "send(source, target, value)", "is_cut(one, other)", "cut(names, part)", "heal()", "take(place)",
                 "drop(place)", "repeat(place)", "forget(name)"),
+    "client.Client": ("name, map_members, wishes", "is_done()", "begin(wish)", "ask()", "receive(message, time)",
+                      "follow(leader)", "end(answer, time)", "take_outbox()"),
+    "cluster.Cluster": ("groups, seed=1, limit=12", "group_of(name)", "names()", "start(name)", "crash(name, many=0)",
+                        "add_client(name, wishes)", "guarded(name, work)", "tick(name)", "act(choice)",
+                        "settle(most=4000)", "go_round()", "rounds(many)", "add_machine(group, name)",
+                        "leader_of(group)", "change_members(group, members, most=300)",
+                        "propose_members(name, members)", "history()", "change_map(change, most=4000)"),
+    "cluster.Administrator": ("members", "want(change)", "is_done()", "receive(message, time)", "take_outbox()"),
+    "linear.Operation": ("client, wish, asked, answered, answer",),
+    "hashtree.HashTree": ("table, levels=3", "way_of(key)", "root()", "set_row(key, value)"),
+    "gossip.View": ("name, names", "tick()", "news()", "hear(news)", "state_of(name)", "names_in(state)",
+                    "forget_dead()"),
+    "gossip.Crowd": ("names, seed=1", "partner(name)", "tell_round()", "set_down(name, down)", "agree_on(name)"),
+    "merge.Counter": ("rises=(), falls=()", "add(machine, number)", "total()", "merged(other)", "shown()"),
+    "merge.Register": ("value=None, time=0, machine=''", "assign(machine, time, value)", "merged(other)", "shown()"),
+    "merge.Members": ("tags=(), dropped=()", "add(machine, number, member)", "discard(member)", "has(member)",
+                      "all_members()", "merged(other)", "shown()"),
+    "merge.Stamp": ("counts=()", "tick(machine)", "merged(other)", "stands_before(other)", "compare(other)", "shown()"),
+    "console.Console": ("groups, seed=1", "enter(line)", "ask(wish)"),
 }
 
 
@@ -64,6 +104,17 @@ def fields():
         (Server("a", "g", ("a",), ("m",), Disk(), 1), {"name": text, "group": text, "agreement": Agreement,
                                                        "book": Keeper, "applied": many, "waiting": table}),
         (Net(), {"messages": rows, "parts": table, "sent": many, "lost": many}),
+        (Client("u", ("m",), [("get", "a")]), {"name": text, "map": ShardMap, "events": rows, "number": many, "asked": many,
+                                               "turn": many, "wishes": rows}),
+        (Cluster({"maps": ("m",)}), {"groups": table, "disks": table, "servers": table, "clients": table, "net": Net,
+                                     "time": many, "admin": Administrator}),
+        (Administrator(("m",)), {"name": text, "events": rows, "asked": many, "turn": many}),
+        (Operation("u", ("get", "a"), 1, None, None), {"wish": row, "asked": many, "answered": none, "answer": none}),
+        (HashTree({"a": 1}, 2), {"levels": many, "rows": table, "hashes": table}),
+        (View("a", ("a", "b")), {"name": text, "time": many, "rows": table}),
+        (Crowd(("a", "b")), {"views": table, "down": table, "turn": many}),
+        (Register(), {"value": none, "time": many, "machine": text}),
+        (Console({"maps": ("m",)}), {"cluster": Cluster, "asked": many}),
     )
 
 

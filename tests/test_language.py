@@ -32,9 +32,9 @@ BARRED_ATTRIBUTES = set(
     "fromhex format format_map mro elements open input law register bit_count conjugate from_bytes is_integer "
     "to_bytes as_integer_ratio real imag numerator denominator".split())
 BARRED_NODES = (
-    ast.Set, ast.SetComp, ast.GeneratorExp, ast.Lambda, ast.Global, ast.Nonlocal, ast.AsyncFunctionDef, ast.Await,
+    ast.Set, ast.GeneratorExp, ast.Global, ast.Nonlocal, ast.AsyncFunctionDef, ast.Await,
     ast.Yield, ast.YieldFrom, ast.With, ast.AsyncWith, ast.AsyncFor, ast.AnnAssign, ast.NamedExpr, ast.Starred,
-    ast.JoinedStr, ast.Div, ast.MatMult, ast.Assert, ast.Match, ast.Pow)
+    ast.Div, ast.MatMult, ast.Assert, ast.Match, ast.Pow)
 
 
 def sources():
@@ -200,7 +200,8 @@ class Statements(unittest.TestCase):
             self.assertIsNone(node.args.vararg, (name, node.name))
             self.assertIsNone(node.args.kwarg, (name, node.name))
             for one in node.args.defaults:
-                self.assertIsInstance(one, ast.Constant, (name, node.name))
+                self.assertIsInstance(one, (ast.Constant, ast.Tuple), (name, node.name))
+                self.assertTrue(is_plain(one), (name, node.name))
 
     def test_special_methods(self):
         for name, node in nodes(ast.FunctionDef):
@@ -237,11 +238,37 @@ class Statements(unittest.TestCase):
     def test_errors(self):
         own = {node.name for name, node in nodes(ast.ClassDef) if name == "errors.py"}
         for name, node in nodes(ast.ExceptHandler):
-            self.assertIsInstance(node.type, ast.Name, (name, node.lineno))
-            self.assertIn(node.type.id, own | {"KeyError", "ZeroDivisionError"}, (name, node.lineno))
+            for one in node.type.elts if isinstance(node.type, ast.Tuple) else [node.type]:
+                self.assertIsInstance(one, ast.Name, (name, node.lineno))
+                self.assertIn(one.id, own | {"KeyError", "ZeroDivisionError"}, (name, node.lineno))
+        bare = [inner for _, node in nodes(ast.ExceptHandler) for inner in ast.walk(node) if isinstance(inner, ast.Raise)]
         for name, node in nodes(ast.Raise):
-            self.assertIsInstance(node.exc, ast.Call, (name, node.lineno))
-            self.assertIn(node.exc.func.id, own, (name, node.lineno))
+            if node.exc is None:
+                self.assertIn(node, bare, (name, node.lineno))
+            else:
+                self.assertIsInstance(node.exc, ast.Call, (name, node.lineno))
+                self.assertIn(node.exc.func.id, own, (name, node.lineno))
+
+    def test_sets_are_sorted_at_once(self):
+        for name, tree in [(name, tree) for name, _, tree in SOURCES]:
+            at_once = {one for node in ast.walk(tree) if isinstance(node, ast.Call) and isinstance(node.func, ast.Name)
+                       and node.func.id in ("sorted", "len") for one in node.args}
+            for node in ast.walk(tree):
+                if isinstance(node, ast.SetComp):
+                    self.assertIn(node, at_once, (name, node.lineno))
+
+    def test_format_strings(self):
+        for name, node in nodes(ast.JoinedStr):
+            self.assertEqual(node.lineno, node.end_lineno, (name, node.lineno))
+            for one in ast.walk(node):
+                if isinstance(one, ast.FormattedValue):
+                    self.assertIsNone(one.format_spec, (name, node.lineno))
+                    self.assertEqual([inner for inner in ast.walk(one.value) if isinstance(inner, ast.Constant)
+                                      and isinstance(inner.value, (str, bytes))], [], (name, node.lineno))
+
+    def test_lambdas(self):
+        places = [(name, node.lineno) for name, node in nodes(ast.Lambda)]
+        self.assertEqual(len(places), len(set(places)))
 
 
 class Names(unittest.TestCase):

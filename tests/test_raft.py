@@ -763,6 +763,46 @@ class Members(unittest.TestCase):
             machine.tick()
         self.assertEqual(machine.journal.term, 3)
 
+    def test_who_left_and_does_not_know_is_told(self):
+        machine = settled_leader("a", rows=((1, ("nothing",)), (1, ("members", ("a", "b")))), term=1)
+        machine.receive(("ask", 7, "c", 1, 1))
+        self.assertEqual(machine.take_outbox(), [("c", ("vote", 7, "a", False))])
+        gone = agreement("c", rows=((1, ("nothing",)),), term=7)
+        elect(machine)
+        self.assertEqual([target for target, _ in machine.take_outbox()], ["b", "b", "c"])
+        # It is sent the log in each round until it has all of that, and counts for nothing.
+        for _ in range(2):
+            for _ in range(3):
+                machine.tick()
+            pending = machine.take_outbox()
+            self.assertEqual([target for target, _ in pending], ["b", "c"])
+        while pending:
+            target, message = pending.pop()
+            if target == "c":
+                gone.receive(message)
+                for _, answer in gone.take_outbox():
+                    machine.receive(answer)
+                pending.extend(machine.take_outbox())
+        self.assertEqual((gone.members(), log_of(gone)), (("a", "b"), log_of(machine)))
+        self.assertEqual((machine.committed, machine.is_confirmed(machine.turn, machine.journal.term)), (3, False))
+        for _ in range(3):
+            machine.tick()
+        self.assertEqual([target for target, _ in machine.take_outbox()], ["b"])
+        for _ in range(60):
+            gone.tick()
+        self.assertEqual((gone.part, gone.take_outbox()), ("follower", []))
+
+    def test_who_asks_and_is_not_behind_is_sent_nothing(self):
+        for message in (("ask", 7, "c", 3, 2), ("ask", 7, "c", 9, 4), ("vote", 1, "c", True), ("accept", 1, "c", True, 3, 1)):
+            machine = settled_leader("a", rows=((1, ("nothing",)), (1, ("members", ("a", "b")))), term=1)
+            machine.receive(message)
+            if machine.part != "leader":
+                elect(machine)
+            machine.take_outbox()
+            for _ in range(3):
+                machine.tick()
+            self.assertEqual([target for target, _ in machine.take_outbox()], ["b"])
+
     def test_a_change_that_is_cut_holds_no_more(self):
         machine = agreement("b", rows=((1, ("nothing",)), (1, ("members", ("a", "b")))), term=1)
         self.assertEqual(machine.members(), ("a", "b"))
