@@ -191,12 +191,15 @@ class Cluster:
         self.clients[name] = Client(name, self.map_members, wishes)
 
     def guarded(self, name, work):
-        """Let a machine work; it goes down if its disk does, and keeps some of what waited, by the time."""
+        """Let a machine work; it goes down if its disk does, and keeps some of what waited, by the time.
+
+        work is called without arguments. What the machine has to send then is sent.
+        """
         if name not in self.servers:
             raise MachineError("the machine is down")
         server = self.servers[name]
         try:
-            work(server)
+            work()
         except StoreError:
             self.crash(name, self.time % MOST_KEPT)
             return
@@ -210,12 +213,14 @@ class Cluster:
     def tick(self, name):
         """Let a tick pass for a machine that is up."""
         if name in self.servers:
-            self.guarded(name, lambda server: server.tick())
+            server = self.servers[name]
+            self.guarded(name, lambda: server.tick())
 
     def hand_over(self, target, message):
         """Let a message arrive; one to a machine that is down is lost."""
         if target in self.servers:
-            self.guarded(target, lambda server: server.receive(message))
+            server = self.servers[target]
+            self.guarded(target, lambda: server.receive(message))
         elif target in self.clients:
             self.clients[target].receive(message, self.time)
             self.send_all(target, self.clients[target].take_outbox())
@@ -365,9 +370,13 @@ class Cluster:
 
     def propose_members(self, name, members):
         """Let a leader put members into its log, unless others are under way, or it cannot."""
+        if name not in self.servers:
+            return
+        agreement = self.servers[name].agreement
         try:
-            self.guarded(name, lambda server: server.agreement.propose((MEMBERS, tuple(members))))
+            self.guarded(name, lambda: agreement.propose((MEMBERS, tuple(members))))
         except MachineError:
+            # A leader refuses what cannot be now.
             return
 
     def history(self):

@@ -1,6 +1,5 @@
 """Console: a cluster moved by lines of text, and histories as lines."""
 
-from shardstack.client import check_wish
 from shardstack.cluster import Cluster
 from shardstack.errors import AskError, CheckError, MachineError, ShardError, TextError
 from shardstack.inspect import check_cluster
@@ -64,7 +63,6 @@ class Console:
 
     def ask(self, wish):
         """Ask with a new client and go round until it is answered; raise MachineError if no answer comes."""
-        check_wish(wish)
         name = self.name
         self.cluster.add_client(name, [wish])
         self.asked = self.asked + 1

@@ -213,6 +213,14 @@ class Again(unittest.TestCase):
         self.assertNotEqual(target, first)
         self.assertIn(target, ONE.groups["g"])
 
+    def test_a_leader_that_leads_no_more(self):
+        one = client(("put", LOW, "1"))
+        sent(one)
+        answer(one, ("follow", "g9"))
+        sent(one)
+        answer(one, ("follow", None))
+        self.assertIn(later(one)[1], ONE.groups["g"])
+
     def test_follow_itself(self):
         one = client(("put", LOW, "1"))
         first, command = sent(one)

@@ -49,6 +49,8 @@ class Parts(unittest.TestCase):
             self.assertIs(server.agreement.journal.disk, one.disks[name])
             self.assertEqual(server.limit, 12)
         self.assertEqual(Cluster(GROUPS, 1, 5).servers["g1"].limit, 5)
+        self.assertEqual([server.agreement.clock for server in one.servers.values()],
+                         [server.agreement.clock for server in Cluster(GROUPS, 1).servers.values()])
 
     def test_the_seed_tells_the_draws(self):
         clocks = [[Cluster(GROUPS, seed).servers[name].agreement.clock for name in NAMES] for seed in (1, 1, 2)]
@@ -125,9 +127,9 @@ class Parts(unittest.TestCase):
         one = Cluster(GROUPS)
         done = []
 
-        def work(server):
-            done.append(server.name)
-            server.agreement.send("g2", ("vote", 1, "g1", False))
+        def work():
+            done.append("g1")
+            one.servers["g1"].agreement.send("g2", ("vote", 1, "g1", False))
 
         one.guarded("g1", work)
         self.assertEqual(done, ["g1"])
@@ -141,8 +143,8 @@ class Parts(unittest.TestCase):
             one = Cluster(GROUPS)
             disk = one.disks["g1"]
 
-            def work(server):
-                server.agreement.send("g2", ("vote", 1, "g1", False))
+            def work():
+                one.servers["g1"].agreement.send("g2", ("vote", 1, "g1", False))
                 disk.append("x" * 90)
                 disk.sync()
 
@@ -312,8 +314,9 @@ class Acts(unittest.TestCase):
         one.crash("g1")
         one.act(event("cut", 9))
         self.assertEqual(one.net.parts["g1"], 2)
+        self.assertTrue(one.net.is_cut("g1", "m1"))
         one.act(event("heal", 3))
-        self.assertFalse(one.net.is_cut("g1", "h1"))
+        self.assertFalse(one.net.is_cut("g1", "m1"))
         self.assertEqual(one.time, 7)
 
     def test_arm(self):
@@ -454,6 +457,12 @@ class Leaders(unittest.TestCase):
         self.assertEqual([one.servers[name].agreement.part for name in (old, new)], ["leader", "leader"])
         one.crash(new)
         self.assertEqual(one.leader_of("g"), old)
+        for number in range(3):
+            one = Cluster(GROUPS)
+            for at, name in enumerate(GROUPS["g"]):
+                one.servers[name].agreement.part = "leader"
+                one.servers[name].agreement.journal.term = (at + number) % 3
+            self.assertEqual(one.leader_of("g"), GROUPS["g"][2 - number])
 
 
 class Members(unittest.TestCase):
@@ -674,6 +683,14 @@ class Admin(unittest.TestCase):
         self.assertEqual((one.is_done(), one.events[-1][3:]), (True, (47, ("refused", "map"))))
         one.receive(("reply", message[2], self.ANSWER, 4), 48)
         self.assertEqual(one.events[-1][3:], (47, ("refused", "map")))
+
+    def test_times(self):
+        one = Administrator(("m1",))
+        one.go_on(5)
+        one.want(self.CHANGE)
+        self.assertEqual(one.events, [(1, self.CHANGE, 5, None, None)])
+        one.receive(("reply", 1, self.ANSWER, 4), 9)
+        self.assertEqual(one.events, [(1, self.CHANGE, 5, 9, self.ANSWER)])
 
     def test_changes_one_after_another(self):
         one = Administrator(("m1",))

@@ -48,6 +48,12 @@ class Lines(unittest.TestCase):
             ("move 0 h", "map 3: h g g g h h h h"), ("move 7 g", "map 4: h g g g h h h g"), ("leave g", "map 5: h h h h h h h h"),
             ("join g", "map 6: h h h h g g g g"))
 
+    def test_each_shard_moves(self):
+        one = console("join h")
+        for shard in range(8):
+            places = one.enter(f"move {shard} {'hg'[shard // 4]}").split()[2:]
+            self.assertEqual(places, ["h"] * min(4, shard + 1) + ["g"] * max(0, 3 - shard) + ["g"] * max(0, shard - 3) + ["h"] * min(4, 7 - shard))
+
     def test_keys_that_move(self):
         one = console(*[f"put {key} {key}" for key in "abcdefgh"])
         for line in ("join h", "move 0 h", "leave g", "join g"):
@@ -190,6 +196,7 @@ class Texts(unittest.TestCase):
         self.assertEqual(map_text(("map", (0, (None,) * 8, ()))), "map 0: - - - - - - - -")
         self.assertEqual(map_text(("map", (12, ("g", "h") * 4, (("g", ("a",)), ("h", ("b",)))))), "map 12: g h g h g h g h")
         self.assertEqual(map_text(("refused", "map")), "error: map")
+        self.assertEqual(answer_text(("map", (3, ("g",) * 8, ()))), "map 3: g g g g g g g g")
 
     def test_wish_text(self):
         for wish, text in ((("put", "a", "1"), "put a 1"), (("swap", "a", None, "1"), "swap a - 1"), (("read", "a"), "read a"),

@@ -110,6 +110,8 @@ class Crowds(unittest.TestCase):
         crowd = Crowd(NAMES)
         self.assertEqual((sorted(crowd.views), crowd.down), (list(NAMES), {}))
         self.assertEqual([crowd.views[name].name for name in NAMES], list(NAMES))
+        self.assertEqual([crowd.partner(name) for name in NAMES], [Crowd(NAMES, 1).partner(name) for name in NAMES])
+        self.assertEqual(crowd.partner("a"), "c")
 
     def test_whose_turn_it_is(self):
         for seed in range(7):

@@ -131,6 +131,21 @@ class Right(unittest.TestCase):
             one.go_round()
             self.assertEqual(check_cluster(one), 10)
 
+    def test_members_that_only_later_entries_tell(self):
+        # The leader of four has put into its log that there are five, and has committed with the fifth one.
+        rows = [(1, ("nothing",)), (1, ("x",)), (1, ("members", ("g1", "g2", "g3", "g4", "g5")))]
+        one = Cluster({"maps": ("m1",), "g": ("g1", "g2", "g3", "g4")})
+        one.add_machine("g", "g5")
+        for name, many in (("g1", 3), ("g2", 2), ("g3", 0), ("g4", 0), ("g5", 2)):
+            one.servers[name].agreement.journal.add([Entry(*row) for row in rows[:many]])
+        for name in ("g1", "g2", "g5"):
+            one.servers[name].agreement.committed = 2
+            self.assertIsNone(check_committed(one, "g"))
+        one.servers["g2"].agreement.journal.cut(2)
+        one.servers["g2"].agreement.committed = 0
+        with self.assertRaises(CheckError):
+            check_committed(one, "g")
+
     def test_newest_keeper(self):
         one = cluster()
         self.assertEqual([newest_keeper(one, "g", place) for place in range(8)], [2] * 4 + [None] * 4)

@@ -211,6 +211,9 @@ class Orders(unittest.TestCase):
         order = "hbcagfed"
         rows = [(wish, asked, answered, value(order[:order.index(wish[2]) + 1])) for wish, asked, answered, _ in rows]
         self.check(operations(*rows), True)
+        puts = [(("put", "a", str(number)), 1, 99, DONE) for number in range(9)]
+        self.check(operations(*puts, (("get", "a"), 100, 101, value("4"))), True)
+        self.check(operations(*puts, (("get", "a"), 100, 101, value("9"))), False)
         lost = [(("put", "a", str(number)), 1, None, None) for number in range(9)]
         self.check(operations(*lost, (("get", "a"), 2, 3, value("4")), (("get", "a"), 4, 5, value("8"))), True)
         self.check(operations(*lost, (("get", "a"), 2, 3, value("4")), (("get", "a"), 4, 5, value("9"))), False)
