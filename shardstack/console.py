@@ -55,7 +55,7 @@ class Console:
             return DONE
         check_words(len(words) == 1 and word in ("heal", "leaders", "check"))
         if word == "leaders":
-            return self.leaders()
+            return self.leader_line()
         if word == "check":
             return self.check()
         self.cluster.net.heal()
@@ -98,7 +98,7 @@ class Console:
             self.cluster.net.cut(names, 1)
         return DONE
 
-    def leaders(self):
+    def leader_line(self):
         """Return who leads each group."""
         groups = sorted(self.cluster.groups)
         return " ".join([f"{group}={value_text(self.cluster.leader_of(group))}" for group in groups])
