@@ -7,13 +7,11 @@ from shardstack.shards import first_map, map_from, shard_of
 # So many turns a client waits for an answer before it asks again: an answer takes about four.
 PATIENCE = 7
 # So many turns it waits where it is told to come later.
-PAUSE = 3
-# So often it meets the lock of a deal before it takes its owner for gone and frees it.
-MOST_MEETINGS = 8
+PAUSE = 1
+# So many turns it meets the lock of a deal before it takes its owner for gone: a deal on all shards takes about 70.
+MOST_LOCKED = 80
 # So often it asks a group in vain before it asks for a newer map.
 MOST_SILENCES = 3
-# Deals that meet locks wait longer with each attempt, up to so many pauses.
-MOST_PAUSES = 5
 
 
 def check_wish(wish):
@@ -82,6 +80,7 @@ class Client:
         self.number = 0
         self.asked = 0
         self.turn = 0
+        self.passed = 0
         self.time = 0
         self.serial = 0
         self.is_reborn = False
@@ -115,6 +114,7 @@ class Client:
     def go_on(self, time):
         """Let a turn pass: begin the next wish, or ask again for what was not answered for long."""
         self.time = time
+        self.passed = self.passed + 1
         if self.steps == []:
             if self.number < len(self.wishes):
                 self.begin(self.wishes[self.number])
@@ -296,30 +296,33 @@ class Client:
         """Meet the lock of another deal: an own one gives up, and a lock that stays is freed; else wait."""
         shard, command = self.steps[0]
         is_deal = command[0] == "prepare"
-        many = self.met.get(other, 0) + 1
-        self.met[other] = many % MOST_MEETINGS
+        self.met[other] = self.met.get(other, self.passed)
+        stays = self.passed - self.met[other] >= MOST_LOCKED
         if is_deal:
             self.give_up()
-        if many == MOST_MEETINGS:
+        if stays:
+            self.met.pop(other)
             freeing = [(other[3], ("decide", other, other[3], False)), (shard, ("finish", other, shard, False))]
             self.steps = freeing + self.steps
         self.patience = PAUSE
-        if is_deal or many == MOST_MEETINGS:
+        if is_deal or stays:
             self.ask()
 
     def give_up(self):
-        """Decide the own deal off, and unlock what it may have locked: all up to the shard under way."""
+        """Unlock what the own deal may have locked: all up to the shard under way.
+
+        Nobody else decides it good, so there is nothing to decide.
+        """
         last, command = self.steps[0]
-        deal = command[1]
         operations = self.events[-1][1][1]
-        self.steps = [(deal[3], ("decide", deal, deal[3], False))]
-        self.steps.extend([(shard, ("finish", deal, shard, False)) for shard in shards_in(operations) if shard <= last])
+        shards = [shard for shard in shards_in(operations) if shard <= last]
+        self.steps = [(shard, ("finish", command[1], shard, False)) for shard in shards]
 
     def use_decision(self, command, good, time):
         """Go on by what was decided, whoever came first."""
-        _, deal, _, wanted = command
+        deal = command[1]
         if deal == self.deal:
-            self.good = wanted and good
+            self.good = good
         self.steps = [(shard, with_outcome(step, deal, good)) for shard, step in self.steps]
         self.next_step(time)
 
@@ -333,7 +336,7 @@ class Client:
         if self.good:
             self.end(("deal", deal_answers(operations, self.answers)), time)
         else:
-            self.patience = PAUSE * min(self.attempt, MOST_PAUSES)
+            self.patience = PAUSE
             self.steps = self.plan_deal(operations)
 
     def end(self, answer, time):

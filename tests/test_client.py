@@ -371,8 +371,6 @@ class Deals(unittest.TestCase):
         self.assertEqual(sent(one)[1][0:3], ("prepare", self.deal(), self.B))
         answer(one, ("locked", OTHER_DEAL))
         # It gives up, and unlocks what it has, and what a late message may still lock.
-        self.assertEqual(sent(one)[1], ("decide", self.deal(), self.A, False))
-        answer(one, ("decided", False))
         for shard in (self.A, self.B):
             self.assertEqual(sent(one)[1], ("finish", self.deal(), shard, False))
             answer(one, ("over", None))
@@ -401,8 +399,6 @@ class Deals(unittest.TestCase):
         one = self.begun()
         sent(one)
         answer(one, ("over", None))
-        self.assertEqual(sent(one)[1], ("decide", self.deal(), self.A, False))
-        answer(one, ("decided", False))
         self.assertEqual(sent(one)[1], ("finish", self.deal(), self.A, False))
         answer(one, ("over", None))
         self.assertEqual(later(one)[2][:3], ("prepare", self.deal(2), self.A))
@@ -423,7 +419,7 @@ class Deals(unittest.TestCase):
         for wish in (("put", LOW, "1"), ("read", LOW), ("near", LOW)):
             one = client(wish)
             command = sent(one)[1]
-            for _ in range(50):
+            for _ in range(200):
                 answer(one, ("locked", OTHER_DEAL))
                 freeing = [row[1][3] for row in one.take_outbox()]
                 if freeing:
@@ -439,7 +435,7 @@ class Deals(unittest.TestCase):
 
     def test_what_was_decided_before_holds(self):
         one = client(("put", LOW, "1"))
-        for _ in range(50):
+        for _ in range(200):
             one.take_outbox()
             answer(one, ("locked", OTHER_DEAL))
             if one.take_outbox():
@@ -453,7 +449,7 @@ class Deals(unittest.TestCase):
     def test_a_deal_frees_locks_that_stay(self):
         one = self.begun()
         freed = []
-        for _ in range(400):
+        for _ in range(600):
             for _, message in one.take_outbox():
                 word, deal, shard = message[3][:3]
                 if word == "prepare" and shard == self.B and deal not in freed and not freed:

@@ -114,9 +114,9 @@ class Lines(unittest.TestCase):
             self.assertGreater(one.cluster.time, before + 50)
         self.enter(one, ("check", "7 up, linear"), ("start g1", "done"), ("wait 100", "done"), ("get a", "2"),
                    ("check", "8 up, linear"))
-        one = console("crash m1", "crash m2")
-        # Who does not know the map yet has to ask for it.
-        self.enter(one, ("join h", "error: machine"), ("put a 1", "error: machine"), ("start m1", "done"),
+        # Any machine tells the map, but one alone cannot change it.
+        one = console("wait 50", "crash m1", "crash m2")
+        self.enter(one, ("join h", "error: machine"), ("put a 1", "done"), ("start m1", "done"),
                    ("wait 100", "done"), ("get a", "1"), ("leave g", "map 3: h h h h h h h h"))
 
     def test_before_a_group_has_joined(self):
