@@ -8,16 +8,25 @@ from shardstack.client import Client
 from shardstack.cluster import Administrator, Cluster
 from shardstack.console import Console
 from shardstack.disk import Disk
+from shardstack.engine import Engine, Run
+from shardstack.filters import Counts, Filter, Tops
 from shardstack.gossip import Crowd, View
 from shardstack.hashtree import HashTree
 from shardstack.journal import Entry, Journal
 from shardstack.keeper import Keeper, Shard
+from shardstack.lease import DriftClock, Granter, Guarded, Holder
 from shardstack.linear import Operation
+from shardstack.locks import LockTable
 from shardstack.merge import Register
 from shardstack.net import Net
+from shardstack.placing import Part, Place, Planner
+from shardstack.queues import Shares, Tenant, Work, WorkQueue
 from shardstack.raft import Agreement
 from shardstack.server import Server
 from shardstack.shards import MapBook, ShardMap, first_map
+from shardstack.tables import Follower, Index, Table
+from shardstack.versions import Dealing, Versions
+from shardstack.workflows import Workflow
 
 FUNCTIONS = {
     "wire": ("natural(number)", "pack(value, depth=0)", "sign_number(sign)", "unpack(data)", "sum_of_bytes(data)",
@@ -41,6 +50,11 @@ FUNCTIONS = {
               "choice_of(line)", "parse_trace(text)", "rerun(groups, seed, limit, wishes, choices)"),
     "console": ("deal_part(text)", "value_text(value)", "answer_text(answer)", "map_text(answer)",
                 "history_lines(history)", "wish_text(wish)"),
+    "lease": ("waiting_time(length)",),
+    "engine": ("joined_runs(newer, older)", "engine_from(disk, most=8)"),
+    "versions": ("is_within(key, low, high)",),
+    "placing": ("moves_between(old, new)",),
+    "tables": ("restored(data, time)", "backup_rows(data)"),
 }
 
 CLASSES = {
@@ -82,6 +96,36 @@ CLASSES = {
                       "all_members()", "merged(other)", "shown()"),
     "merge.Stamp": ("counts=()", "tick(machine)", "merged(other)", "stands_before(other)", "compare(other)", "shown()"),
     "console.Console": ("groups, seed=1", "enter(line)", "ask(wish)"),
+    "lease.DriftClock": ("rate, start=0", "at(time)"),
+    "lease.Granter": ("clock", "ask(name, length, time)", "give_back(name, number)"),
+    "lease.Holder": ("name, clock", "begin(length, time)", "granted(turn, number)", "holds(time)", "drop()"),
+    "lease.Guarded": ("", "act(number, what)"),
+    "filters.Filter": ("bits, ways", "add(value)", "may_have(value)", "joined(other)", "shown()"),
+    "filters.Counts": ("width, ways", "add(value, many=1)", "at_most(value)", "joined(other)"),
+    "filters.Tops": ("many", "add(value)", "top()"),
+    "engine.Run": ("rows", "has(key)"),
+    "engine.Engine": ("disk, most=8", "put(key, value)", "sync()", "flush()", "compact()", "value_of(key)",
+                      "scan(low, high)"),
+    "versions.Dealing": ("number, start, strict",),
+    "versions.Versions": ("", "begin(strict=False)", "value_at(key, time)", "table_at(time)", "read(deal, key)",
+                          "scan(deal, low, high)", "write(deal, key, value)", "changed_since(key, time)",
+                          "conflicts(deal)", "commit(deal)", "drop(deal)", "trim(time)", "changes(low, high)"),
+    "locks.LockTable": ("", "ask(owner, key, mode)", "mode_of(owner, key)", "number_of(owner, key)",
+                        "release(owner, key)", "leave(owner)", "waits_for(owner)", "ring()"),
+    "placing.Place": ("name, zone, room",),
+    "placing.Part": ("name, weight, copies",),
+    "placing.Planner": ("machines, parts", "plan(old)", "may_hold(part, name, rows)", "best_for(part, rows)"),
+    "queues.Work": ("number, body, time",),
+    "queues.WorkQueue": ("length", "put(body, time, wait=0)", "take(time)", "holds(number, receipt, time)",
+                         "done(number, receipt, time)", "give_back(number, receipt, time)",
+                         "longer(number, receipt, time)"),
+    "queues.Tenant": ("weight",),
+    "queues.Shares": ("", "add(name, weight)", "put(name, size, body)", "next_work()"),
+    "workflows.Workflow": ("disk, steps", "note(word, step)", "state_of(step)", "end()", "go(doer, undoer)"),
+    "tables.Index": ("name, place, single", "field(value)", "move(key, old, new)", "clash(changes, table)"),
+    "tables.Follower": ("prefix, time",),
+    "tables.Table": ("", "add_index(name, place, single=False)", "commit(deal)", "look_up(name, low, high)",
+                     "follow(name, prefix)", "hear(name)", "backup()", "changes_backup(time)"),
 }
 
 
@@ -115,6 +159,37 @@ def fields():
         (Crowd(("a", "b")), {"views": table, "down": table, "turn": many}),
         (Register(), {"value": none, "time": many, "machine": text}),
         (Console({"maps": ("m",)}), {"cluster": Cluster, "asked": many}),
+    ) + later_fields()
+
+
+def later_fields():
+    """Return the same of what does not need a cluster."""
+    text, table, row, rows, many, truth, none = str, dict, tuple, list, int, bool, type(None)
+    clock = DriftClock((1, 1))
+    return (
+        (clock, {"begun": many}),
+        (Granter(clock), {"clock": DriftClock, "holder": none, "number": many}),
+        (Holder("a", clock), {"name": text, "clock": DriftClock, "number": none, "asked": none, "turn": many}),
+        (Guarded(), {"acts": rows}),
+        (Filter(64, 3), {"size": many, "ways": many}),
+        (Counts(64, 3), {"rows": table, "whole": many}),
+        (Tops(2), {"many": many, "missed": many}),
+        (Run((("a", 1),)), {"rows": row, "table": table}),
+        (Engine(Disk()), {"memory": table, "runs": rows}),
+        (Dealing(1, 0, True), {"number": many, "sees": many, "strict": truth, "goes_on": truth}),
+        (Versions(), {"rows": table, "time": many, "trimmed": many, "deals": table, "next_number": many}),
+        (LockTable(), {"held": table, "waits": table}),
+        (Place("a", "z", 1), {"name": text}),
+        (Part("p", 1, 2), {"name": text, "copies": many}),
+        (Planner([Place("a", "z", 1)], [Part("p", 1, 2)]), {"parts": rows, "left": table}),
+        (Work(1, "x", 0), {"number": many, "body": text, "ready": many, "takes": many, "receipt": none}),
+        (WorkQueue(5), {"rows": table, "given_up": rows, "next_number": many}),
+        (Tenant(1), {"waits": rows, "point": many}),
+        (Shares(), {"tenants": table, "point": many}),
+        (Workflow(Disk(), ("a",)), {"rows": rows}),
+        (Index("i", 0, True), {"name": text, "by_field": table}),
+        (Follower("", 0), {"time": many}),
+        (Table(), {"versions": Versions, "indexes": table}),
     )
 
 
@@ -151,6 +226,8 @@ class Interface(unittest.TestCase):
     def test_constants(self):
         shards = importlib.import_module("shardstack.shards")
         self.assertEqual((shards.SHARDS, shards.MAPS), (8, "maps"))
+        engine, queues = importlib.import_module("shardstack.engine"), importlib.import_module("shardstack.queues")
+        self.assertEqual((engine.FILTER_BITS, engine.FILTER_WAYS, queues.MOST_TAKES), (64, 3, 3))
 
     def test_no_object_shares_its_tables_with_another(self):
         for (one, names), (other, _) in zip(fields(), fields()):
