@@ -163,10 +163,10 @@ def restored(data, time):
     rows = backup_rows(data)
     if rows == [] or not is_backup(rows[0]):
         raise TableError("the bytes are no backup")
-    _, _, here, kept = rows[0]
+    here = rows[0][2]
     if time < here:
         raise TableError("the time is before that of the backup")
-    table = {key: value for key, value in kept}
+    table = {key: value for key, value in rows[0][3]}
     for row in rows[1:]:
         if row[1] != here or not is_changes(row):
             raise TableError("changes do not follow what is before them")
