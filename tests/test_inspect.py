@@ -156,6 +156,9 @@ class Right(unittest.TestCase):
             for shard in one.servers[name].book.shards:
                 shard.state = "away"
         self.assertEqual(newest_keeper(one, "g", 0), 2)
+        # A machine that is behind does not tell.
+        one.servers["g3"].applied -= 2
+        self.assertIsNone(newest_keeper(one, "g", 0))
         for name in GROUPS["g"]:
             one.crash(name)
         self.assertIsNone(newest_keeper(one, "g", 0))

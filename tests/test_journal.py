@@ -415,7 +415,9 @@ class Reading(unittest.TestCase):
                         (("entry", 1, 1, ("a",)), ("cut", 1), ("entry", 2, 1, ("a",))),
                         (("term", 3, None), ("term", 2, None)), (("term", 3, "a"), ("term", 3, "b")),
                         (("term", 3, "a"), ("term", 3, None)), (("other", 1),), (7,), ((),), ("term",), (("term", 1),),
-                        (("entry", 1, 1),), (None,)):
+                        (("entry", 1, 1),), (None,), (("other", 1, 1, ("a",)),), (("term", 1, None, 1),), (("entry",),),
+                        (("entry", 1, 1, ("a",)), ("cut", 1, 2)), (("term", "1", None),), (("cut", "1"),),
+                        (("entry", None, 1, ("a",)),), (("entry", 1, 1, ("a",)), ("other", 1))):
             with self.assertRaises(StoreError):
                 read_journal(self.disk(records), NAMES)
 

@@ -494,7 +494,8 @@ class Restoring(unittest.TestCase):
                                  (-1, 1, "ab"), (-1, 1, (5,)), (-1, 1, (("a",),)), (-1, 1, (("a", 1, 2),)),
                                  (-1, 1, ((1, "a"),)), (-1, 1, (("", 1),)), (-1, 1, (("b", 1), ("a", 1))),
                                  (-1, 1, (("a", 1), ("a", 1))), (-1, 1, ("ab",)), (-1, 1, (("a", None),)),
-                                 (-1, -1, ()), (-1, -2, ()), ("-1", 1, ()), (None, 1, ()), (-2, 1, ()), (0, 1, ())):
+                                 (-1, -1, ()), (-1, -2, ()), ("-1", 1, ()), (None, 1, ()), (-2, 1, ()), (0, 1, ()),
+                                 (-1, False, ())):
             for time in (-2, -1, 0, 1, 2):
                 with self.assertRaises(TableError, msg=(begin, end, rows)):
                     restored(frame(("shards", begin, end, rows)), time)
@@ -507,6 +508,11 @@ class Restoring(unittest.TestCase):
             for time in (1, 2, 3):
                 with self.assertRaises(TableError, msg=(begin, end, rows)):
                     restored(frame(good) + frame(("shards", begin, end, rows)), time)
+        for row in ((1, 0, ()), (1, 2, ((False, "a", 1),))):
+            with self.assertRaises(TableError):
+                restored(frame(good) + frame(("shards",) + row) + frame(("shards", row[1], 3, ())), 1)
+        with self.assertRaises(TableError):
+            restored(frame(("shards", -1, 0, ())) + frame(("shards", False, 3, ())), 1)
         rows = ((2, "b", 1), (3, "a", None), (3, "b", 2))
         self.assertEqual([restored(frame(good) + frame(("shards", 1, 3, rows)), time) for time in (1, 2, 3)],
                          [{"a": 1}, {"a": 1, "b": 1}, {"b": 2}])

@@ -71,6 +71,9 @@ class Reruns(unittest.TestCase):
         newest = one.servers[one.leader_of("maps")].book.maps[-1]
         self.assertEqual((newest.places, newest.groups), (("g",) * 4 + ("h",) * 4, {"g": GROUPS["g"], "h": GROUPS["h"]}))
         self.assertEqual(one.history(), [])
+        # Nothing is asked for the maps' group, which keeps no shard.
+        self.assertEqual([event[1] for event in one.admin.events],
+                         [("join", name, GROUPS[name]) for name in ("g", "h")])
 
     def test_the_events(self):
         one, other = rerun(GROUPS, 3, 5, WISHES, []), rerun(GROUPS, 3, 5, WISHES, choices(500))
