@@ -92,11 +92,12 @@ class Holder:
         self.asked = self.clock.at(time)
         self.length = length
         self.turn = self.turn + 1
+        self.dropped = None
         return self.turn
 
     def granted(self, turn, number):
         """Return True and hold the lease that was asked for; a grant, or refusal, of an earlier asking does nothing."""
-        # A lease that was dropped may be given back, and granted to another one, before a late grant of it is heard.
+        # A lease that was dropped behind the last asking may be given back, and granted to another one, by now.
         if self.asked is None or turn != self.turn or number is None or number == self.dropped:
             return False
         self.number = number

@@ -238,6 +238,22 @@ class Holders(unittest.TestCase):
         self.assertIs(holder.holds(6), True)
         self.assertEqual(holder.drop(), 8)
         self.assertIs(holder.holds(6), False)
+        # Asked for anew, and not given back: it is granted again to its holder.
+        turn = holder.begin(10, 20)
+        self.assertIs(holder.granted(turn, 8), True)
+        self.assertEqual([holder.holds(time) for time in (29, 30)], [True, False])
+
+    def test_drop_while_asking_again(self):
+        holder = Holder("a", DriftClock(EVEN))
+        holder.granted(holder.begin(10, 0), 7)
+        turn = holder.begin(10, 5)
+        self.assertEqual(holder.drop(), 7)
+        self.assertIs(holder.granted(turn, 7), False)
+        self.assertIs(holder.granted(turn, None), False)
+        self.assertEqual((holder.number, holder.holds(6)), (None, False))
+        # This was granted when the other one had been given back.
+        self.assertIs(holder.granted(turn, 8), True)
+        self.assertIs(holder.holds(6), True)
 
     def test_asking_while_nothing_is_held_is_not_dropped(self):
         holder = Holder("a", DriftClock(EVEN))
@@ -266,6 +282,9 @@ class Together(unittest.TestCase):
 
         for time in range(400):
             for name, holder in holders.items():
+                if any(one[1:3] == ("back", name) for one in messages):
+                    # Who gives back asks again when it is told that this was done.
+                    continue
                 if draw.random() < 0.2:
                     length = draw.choice((1, 5, 20, draw.randint(1, 40)))
                     send("ask", name, length, holder.begin(length, time))
