@@ -74,16 +74,18 @@ class WorkQueue:
 
     def give_back(self, number, receipt, time):
         """Let work be taken by others again at once; return False for another receipt, or too late."""
-        if not self.holds(number, receipt, time):
-            return False
-        self.rows[number].ready = time
-        return True
+        return self.set_ready(number, receipt, time, time)
 
     def longer(self, number, receipt, time):
         """Hold work for the queue's length from now on; return False for another receipt, or too late."""
+        return self.set_ready(number, receipt, time, time + self.length)
+
+    def set_ready(self, number, receipt, time, ready):
+        """Let work that is held be taken at another time; return False for another receipt, or too late."""
         if not self.holds(number, receipt, time):
             return False
-        self.rows[number].ready = time + self.length
+        work = self.rows[number]
+        work.ready = ready
         return True
 
 

@@ -217,6 +217,11 @@ class Statements(unittest.TestCase):
                    and isinstance(one.ctx, ast.Store) and isinstance(one.value, ast.Name) and one.value.id == "self"}
             self.assertEqual(own & set(told), set(), (name, node.name))
 
+    def test_attributes_are_assigned_through_a_local_name(self):
+        for name, node in nodes(ast.Attribute):
+            if not isinstance(node.ctx, ast.Load):
+                self.assertIsInstance(node.value, ast.Name, (name, node.lineno))
+
     def test_attributes_are_set_at_creation(self):
         for name, node in nodes(ast.ClassDef):
             first = {}
