@@ -86,7 +86,7 @@ class LockTable:
         """Return the place of the one who waits and may hold a key next, None if nobody may."""
         for at, (owner, mode) in enumerate(rows):
             others = [one for one in self.held.get(key, []) if one[0] != owner]
-            # Of those behind the first one only who is alone is served: all others would wait for it.
+            # Who holds the key already, and alone, has it solely at once, also where another one waits ahead.
             is_next = at == 0 or self.mode_of(owner, key) is not None
             if is_next and not any([is_apart(mode, other) for _, other in others]):
                 return at
