@@ -95,6 +95,18 @@ class OneAfterAnother(unittest.TestCase):
         self.assertEqual((one.is_done(), one.take_outbox()), (False, []))
         self.assertTrue(Client("user", MAP_MEMBERS, ()).is_done())
 
+    def test_nothing_to_ask(self):
+        one = Client("user", MAP_MEMBERS, ())
+        one.ask()
+        one.go_on(3)
+        self.assertEqual((one.take_outbox(), one.asked), ([], 0))
+
+    def test_nobody_to_ask(self):
+        one = Client("user", (), (("get", "a"),))
+        one.begin(("get", "a"))
+        one.go_on(3)
+        self.assertEqual((one.take_outbox(), one.asked, one.is_done()), ([], 0, False))
+
     def test_the_map_first(self):
         one = Client("user", MAP_MEMBERS, (("put", LOW, "1"),))
         one.begin(("put", LOW, "1"))

@@ -184,6 +184,10 @@ class Balanced(unittest.TestCase):
         self.assertEqual(found, tuple("abcdefgh"))
         self.assertEqual(balanced(found, {name: (name,) for name in names}), found)
 
+    def test_no_groups(self):
+        self.assertEqual(balanced((None,) * 8, {}), (None,) * 8)
+        self.assertEqual(balanced(("a", "b") * 4, {}), (None,) * 8)
+
 
 class Books(unittest.TestCase):
     def change(self, *change):
