@@ -63,7 +63,11 @@ class WorkQueue:
 
     def holds(self, number, receipt, time):
         """Return True if a receipt is the last one of its work, and its time is not over."""
-        return number in self.rows and self.rows[number].receipt == receipt and time < self.rows[number].ready
+        # Work that was never taken has no receipt: None is not one that could be the last.
+        if receipt is None or number not in self.rows:
+            return False
+        work = self.rows[number]
+        return work.receipt == receipt and time < work.ready
 
     def done(self, number, receipt, time):
         """Note that work is done, by the receipt of its taking; return False for another one, or too late."""

@@ -100,9 +100,20 @@ class Receipts(unittest.TestCase):
     def test_work_that_was_never_taken(self):
         queue = WorkQueue(5)
         queue.put("a", 0, 9)
+        queue.put("b", 0)
+        before = state(queue)
         for word in ("holds", "done", "give_back", "longer"):
-            self.assertIs(getattr(queue, word)(1, 1, 0), False)
-        self.assertEqual(queue.take(9), (1, 1, "a"))
+            # It has no receipt, so that None, what its field tells, is none of its own.
+            for number in (1, 2, 3):
+                for receipt in (1, 0, None):
+                    for time in (0, 8, 9):
+                        self.assertIs(getattr(queue, word)(number, receipt, time), False)
+                        self.assertEqual(state(queue), before)
+        self.assertIsNone(queue.rows[1].receipt)
+        self.assertEqual([queue.take(8), queue.take(8), queue.take(9)], [(2, 1, "b"), None, (1, 2, "a")])
+        for word in ("holds", "done", "give_back", "longer"):
+            self.assertIs(getattr(queue, word)(1, None, 9), False)
+        self.assertIs(queue.done(1, 2, 9), True)
 
     def test_done(self):
         queue = self.taken()
@@ -256,6 +267,9 @@ class DrawnQueues(unittest.TestCase):
                 number, receipt = draw.choice(told[-6:])
                 if draw.random() < 0.1:
                     receipt = draw.randrange(len(told) + 2)
+                elif draw.random() < 0.1:
+                    # Any work, also what was never taken, whose receipt is None.
+                    number, receipt = draw.randint(1, plain.many + 1), None
                 self.assertIs(getattr(queue, word)(number, receipt, time), plain.end(word, number, receipt, time))
             self.assertEqual([work.number for work in queue.given_up], plain.given_up)
             self.assertEqual([(work.number, work.body, work.takes) for work in queue.rows.values()],
