@@ -65,7 +65,8 @@ class Granter:
 
     def give_back(self, name, number):
         """Take a lease back that its holder does not need any more; return whether it was theirs."""
-        if self.holder != name or self.number != number:
+        # Where nobody holds it, None is not the name of one who does.
+        if self.holder is None or self.holder != name or self.number != number:
             return False
         self.holder = None
         return True
@@ -74,7 +75,7 @@ class Granter:
 class Holder:
     """A clock, a name, the lease's number, and until when by the clock it holds.
 
-    asked is what the clock showed at the last asking, turn the number of that asking.
+    asked is what the clock showed at the asking that stands, None for none; turn is the number of the last asking.
     """
 
     def __init__(self, name, clock):
@@ -85,20 +86,17 @@ class Holder:
         self.asked = None
         self.length = 0
         self.turn = 0
-        self.dropped = None
 
     def begin(self, length, time):
         """Note when a lease of a length is asked for, from when on it counts, and return the number of the asking."""
         self.asked = self.clock.at(time)
         self.length = length
         self.turn = self.turn + 1
-        self.dropped = None
         return self.turn
 
     def granted(self, turn, number):
         """Return True and hold the lease that was asked for; a grant, or refusal, of an earlier asking does nothing."""
-        # A lease that was dropped behind the last asking may be given back, and granted to another one, by now.
-        if self.asked is None or turn != self.turn or number is None or number == self.dropped:
+        if self.asked is None or turn != self.turn or number is None:
             return False
         self.number = number
         self.until = self.asked + self.length
@@ -110,9 +108,10 @@ class Holder:
 
     def drop(self):
         """Hold nothing any more, and return the lease's number, None for none."""
+        # It may be given back, and granted to another one: no grant that is still under way may count. The granter may
+        # know of a grant that was not heard of here, so that this ends an asking also where nothing is held.
+        self.asked = None
         number = self.number
-        if number is not None:
-            self.dropped = number
         self.number = None
         return number
 

@@ -147,6 +147,8 @@ class Grants(unittest.TestCase):
         granter = Granter(DriftClock(EVEN))
         self.assertIs(granter.give_back("a", 1), False)
         self.assertIs(granter.give_back("a", 0), False)
+        # Nobody holds it: it is not the lease of a nobody.
+        self.assertIs(granter.give_back(None, 0), False)
         self.assertEqual(granter.ask("a", 100, 0), 1)
         self.assertIs(granter.give_back("b", 1), False)
         self.assertIs(granter.give_back("a", 0), False)
@@ -156,6 +158,7 @@ class Grants(unittest.TestCase):
         self.assertIs(granter.give_back("a", 1), True)
         self.assertEqual((granter.holder, granter.number), (None, 1))
         self.assertIs(granter.give_back("a", 1), False)
+        self.assertIs(granter.give_back(granter.holder, granter.number), False)
         self.assertEqual(granter.ask("b", 100, 1), 2)
         self.assertIs(granter.give_back("a", 1), False)
         self.assertIs(granter.give_back("a", 2), False)
@@ -171,7 +174,7 @@ class Holders(unittest.TestCase):
         holder = Holder("a", clock)
         self.assertEqual((holder.name, holder.number, holder.turn), ("a", None, 0))
         self.assertIs(holder.clock, clock)
-        self.assertIn("asked", vars(holder))
+        self.assertIsNone(holder.asked)
         self.assertIs(holder.holds(0), False)
         self.assertIs(holder.holds(-5), False)
         self.assertIsNone(holder.drop())
@@ -228,10 +231,12 @@ class Holders(unittest.TestCase):
         self.assertEqual((holder.number, holder.holds(1)), (None, False))
         self.assertIsNone(holder.drop())
         # What was dropped may be given back by now: a grant that comes again, or late, is not held.
+        self.assertIsNone(holder.asked)
         self.assertIs(holder.granted(1, 7), False)
+        self.assertIs(holder.granted(1, 8), False)
         self.assertIs(holder.holds(1), False)
         turn = holder.begin(10, 5)
-        self.assertEqual(turn, 2)
+        self.assertEqual((turn, holder.asked), (2, 5))
         self.assertIs(holder.granted(turn, None), False)
         self.assertEqual((holder.number, holder.holds(6)), (None, False))
         self.assertIs(holder.granted(turn, 8), True)
@@ -248,19 +253,60 @@ class Holders(unittest.TestCase):
         holder.granted(holder.begin(10, 0), 7)
         turn = holder.begin(10, 5)
         self.assertEqual(holder.drop(), 7)
+        # The asking is over, and the fields tell so; its turn stays counted.
+        self.assertEqual((holder.asked, holder.turn, holder.number), (None, turn, None))
+        for number in (7, None, 8):
+            self.assertIs(holder.granted(turn, number), False)
+            self.assertEqual((holder.asked, holder.number, holder.holds(6)), (None, None, False))
+        self.assertEqual(holder.begin(10, 6), turn + 1)
         self.assertIs(holder.granted(turn, 7), False)
-        self.assertIs(holder.granted(turn, None), False)
-        self.assertEqual((holder.number, holder.holds(6)), (None, False))
-        # This was granted when the other one had been given back.
-        self.assertIs(holder.granted(turn, 8), True)
-        self.assertIs(holder.holds(6), True)
+        self.assertIs(holder.granted(turn + 1, 7), True)
+        self.assertEqual([holder.holds(time) for time in (15, 16)], [True, False])
 
-    def test_asking_while_nothing_is_held_is_not_dropped(self):
-        holder = Holder("a", DriftClock(EVEN))
-        turn = holder.begin(10, 0)
-        self.assertIsNone(holder.drop())
-        self.assertIs(holder.granted(turn, 1), True)
-        self.assertIs(holder.holds(1), True)
+    def test_drop_of_an_asking_alone(self):
+        granter = Granter(DriftClock(EVEN))
+        one, other = Holder("a", DriftClock(EVEN)), Holder("b", DriftClock(EVEN))
+        turn = one.begin(10, 0)
+        self.assertEqual(granter.ask("a", 10, 0), 1)
+        # The grant was not heard of: it may be given back all the same, by whoever knows of it.
+        self.assertIsNone(one.drop())
+        self.assertEqual((one.asked, one.turn), (None, 1))
+        self.assertIs(granter.give_back("a", 1), True)
+        self.assertIs(other.granted(other.begin(10, 1), granter.ask("b", 10, 1)), True)
+        self.assertIs(one.granted(turn, 1), False)
+        for time in range(1, 11):
+            self.assertEqual([one.holds(time), other.holds(time)], [False, True])
+
+    def test_grants_of_the_asking_that_stands(self):
+        """Drawn deeds: granted answers True for a number told of the last asking, where asked is not None, else not."""
+        draw = random.Random(19)
+        answers = []
+        for _ in range(300):
+            holder = Holder("a", DriftClock(EVEN))
+            time = turns = 0
+            for _ in range(20):
+                time += draw.randrange(3)
+                word = draw.choice(("begin", "begin", "drop", "granted", "granted", "granted"))
+                if word == "begin":
+                    turns += 1
+                    self.assertEqual(holder.begin(10, time), turns)
+                    self.assertEqual(holder.asked, time)
+                elif word == "drop":
+                    before = holder.number
+                    self.assertEqual(holder.drop(), before)
+                    self.assertEqual((holder.number, holder.asked, holder.holds(time)), (None, None, False))
+                else:
+                    turn, number = draw.choice((turns, turns, turns - 1, turns + 1)), draw.choice((None, 1, 1, 2))
+                    stands = holder.asked is not None and turn == turns and number is not None
+                    before = vars(holder).copy()
+                    answers.append(holder.granted(turn, number))
+                    self.assertIs(answers[-1], stands)
+                    if stands:
+                        self.assertEqual((holder.number, holder.holds(time)), (number, time < holder.asked + 10))
+                    else:
+                        self.assertEqual(vars(holder), before)
+                self.assertEqual(holder.turn, turns)
+        self.assertGreater(min(answers.count(True), answers.count(False)), 500)
 
 
 class Together(unittest.TestCase):
@@ -289,9 +335,8 @@ class Together(unittest.TestCase):
                     length = draw.choice((1, 5, 20, draw.randint(1, 40)))
                     send("ask", name, length, holder.begin(length, time))
                 elif draw.random() < 0.05:
-                    number = holder.drop()
-                    if number is not None:
-                        send("back", name, number)
+                    # A grant that was not heard of is given back, too.
+                    send("back", name, holder.drop() or granter.number)
             due = [one for one in messages if one[0] <= time]
             messages[:] = [one for one in messages if one[0] > time]
             draw.shuffle(due)
